@@ -12,13 +12,15 @@ import (
 func Values(f api.Form, now int) []int {
 	values := make([]int, len(f.Cells))
 	done := make([]bool, len(f.Cells))
+	left := len(f.Cells)
 	// There is no ring, so each round works out one more cell at least. To go by rounds
 	// works each cell out once, however many need it.
-	for range f.Cells {
+	for round := 0; left > 0 && round < len(f.Cells); round++ {
 		for i, c := range f.Cells {
 			if !done[i] && ready(c, done) {
 				values[i] = value(f, c, values, now)
 				done[i] = true
+				left--
 			}
 		}
 	}

@@ -3,7 +3,6 @@ package docket
 
 import (
 	"docket/api"
-	"docket/cells"
 	"docket/check"
 	"docket/kind"
 )
@@ -14,6 +13,8 @@ type Case struct {
 	form   api.Form
 	now    int
 	closed bool
+	states []api.State // one for each rule
+	log    []api.Event
 }
 
 // New makes a case (P3).
@@ -22,7 +23,10 @@ func New(f api.Form) (*Case, api.Errno, int) {
 	if wrong != api.OK {
 		return nil, wrong, place
 	}
-	return &Case{form: copyForm(f)}, api.OK, 0
+	c := &Case{form: copyForm(f), states: make([]api.State, len(f.Rules))}
+	values := c.values()
+	c.settle(values)
+	return c, api.OK, 0
 }
 
 // copyForm makes a form that shares no list with f: what is handed in is the caller's to write into.
@@ -53,6 +57,8 @@ func (c *Case) Set(cell int, value int) api.Errno {
 		return api.ErrValue
 	}
 	c.form.Cells[cell].K = value
+	values := c.values()
+	c.settle(values)
 	return api.OK
 }
 
@@ -61,7 +67,7 @@ func (c *Case) Value(cell int) (int, api.Errno) {
 	if !c.hasCell(cell) {
 		return 0, api.ErrName
 	}
-	values := cells.Values(c.form, c.now)
+	values := c.values()
 	return values[cell], api.OK
 }
 
@@ -70,7 +76,18 @@ func (c *Case) hasCell(cell int) bool {
 }
 
 // Advance lets the clock go on (P6).
-func (c *Case) Advance(to int) api.Errno { return api.OK }
+func (c *Case) Advance(to int) api.Errno {
+	if to < c.now || to > api.MaxTime {
+		return api.ErrTime
+	}
+	values := c.values()
+	for c.now < to {
+		c.now = c.nextTurn(values, to)
+		values = c.values()
+		c.settle(values)
+	}
+	return api.OK
+}
 
 // Now tells the present instant (P6).
 func (c *Case) Now() int { return c.now }

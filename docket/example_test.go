@@ -23,12 +23,23 @@ func Example() {
 	due, wrong := c.Value(1)
 	past, _ := c.Value(2)
 	fmt.Println(due, wrong, past)
-	wrong = c.Set(0, -1)
+	wrong = c.Advance(777599)
+	past, _ = c.Value(2)
+	fmt.Println(wrong, past)
+	wrong = c.Advance(777600)
+	past, _ = c.Value(2)
+	fmt.Println(wrong, past)
+	wrong = c.Advance(777599)
+	fmt.Println(wrong, c.Now())
+	wrong = c.Set(0, 777600)
 	due, _ = c.Value(1)
 	past, _ = c.Value(2)
 	fmt.Println(wrong, due, past)
 	// Output:
 	// 0 0
 	// 777600 0 0
-	// 0 0 1
+	// 0 0
+	// 0 1
+	// 9 777600
+	// 0 864000 0
 }
