@@ -93,16 +93,55 @@ func (c *Case) Advance(to int) api.Errno {
 func (c *Case) Now() int { return c.now }
 
 // Rule tells a rule's state (P7).
-func (c *Case) Rule(rule int) (api.State, api.Errno) { return api.State{}, api.OK }
+func (c *Case) Rule(rule int) (api.State, api.Errno) {
+	if !c.hasRule(rule) {
+		return api.State{}, api.ErrName
+	}
+	return c.states[rule], api.OK
+}
+
+func (c *Case) hasRule(rule int) bool {
+	return rule >= 0 && rule < len(c.states)
+}
 
 // Log lists the events from a number on (P7).
-func (c *Case) Log(from int) []api.Event { return nil }
+func (c *Case) Log(from int) []api.Event {
+	if from >= len(c.log) {
+		return nil
+	}
+	if from < 0 {
+		from = 0
+	}
+	// The list is the caller's to write into, so it must not be the case's own.
+	return append([]api.Event{}, c.log[from:]...)
+}
 
 // Ack acknowledges a rule (P8).
-func (c *Case) Ack(rule int) api.Errno { return api.OK }
+func (c *Case) Ack(rule int) api.Errno {
+	if c.closed {
+		return api.ErrClosed
+	}
+	if !c.hasRule(rule) {
+		return api.ErrName
+	}
+	if !c.states[rule].Lit || c.states[rule].Acked {
+		return api.ErrIdle
+	}
+	c.states[rule].Acked = true
+	return api.OK
+}
 
 // Close closes the case (P9).
-func (c *Case) Close() api.Errno { return api.OK }
+func (c *Case) Close() api.Errno {
+	if c.closed {
+		return api.ErrClosed
+	}
+	c.closed = true
+	for i := range c.states {
+		c.states[i] = api.State{}
+	}
+	return api.OK
+}
 
 // Next tells when something changes next (P10).
 func (c *Case) Next() (int, bool) { return 0, false }

@@ -136,6 +136,16 @@ func TestSetRefusesAndChangesNothing(t *testing.T) {
 	}
 }
 
+// That a case is closed stands ahead of every other error of Set.
+func TestSetOfAClosedCase(t *testing.T) {
+	c := begin(t, form(input(7), constant(3)))
+	closes(t, c, api.OK)
+	for _, x := range []struct{ cell, value int }{{0, 5}, {9, 5}, {-1, 5}, {1, 5}, {0, api.Limit + 1}, {least, greatest}} {
+		set(t, c, x.cell, x.value, api.ErrClosed)
+	}
+	values(t, c, 7, 3)
+}
+
 func TestOnlyInputsAreFilledIn(t *testing.T) {
 	for kind := api.Const; kind <= api.Due; kind++ {
 		k := 0
@@ -183,6 +193,7 @@ func TestWhatIsHandedInIsNotWritten(t *testing.T) {
 	c := begin(t, f)
 	set(t, c, 0, 86400, api.OK)
 	want := full()
+	advance(t, c, 100)
 	same := slices.Equal(f.Cells[:3], want.Cells[:3]) && slices.Equal(f.Holidays[:3], want.Holidays[:3]) &&
 		f.Rules[0].Guard == 1 && f.Rules[:2][1].Guard == 9 && slices.Equal(f.Rules[0].Steps[:3], want.Rules[0].Steps[:3])
 	if !same {
@@ -202,4 +213,6 @@ func TestWhatIsHandedInIsNotKept(t *testing.T) {
 	values(t, c, 0, 3*86400)
 	set(t, c, 0, 3*86400, api.OK)
 	values(t, c, 3*86400, 4*86400)
+	advance(t, c, 100)
+	logged(t, c, event(0, 0, 0), event(5, 0, 1), event(6, 0, 2))
 }

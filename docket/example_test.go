@@ -17,6 +17,9 @@ func Example() {
 			{Kind: api.Due, A: 0, K: 1},
 			{Kind: api.Past, A: 1},
 		},
+		Rules: []api.Rule{
+			{Guard: 2, Steps: []int{3600, 7200}},
+		},
 	}
 	c, wrong, place := docket.New(f)
 	fmt.Println(wrong, place)
@@ -26,20 +29,35 @@ func Example() {
 	wrong = c.Advance(777599)
 	past, _ = c.Value(2)
 	fmt.Println(wrong, past)
-	wrong = c.Advance(777600)
+	wrong = c.Advance(784799)
 	past, _ = c.Value(2)
-	fmt.Println(wrong, past)
-	wrong = c.Advance(777599)
+	fmt.Println(wrong, past, c.Log(0))
+	wrong = c.Advance(777600)
 	fmt.Println(wrong, c.Now())
+	wrong = c.Ack(0)
+	state, _ := c.Rule(0)
+	fmt.Println(wrong, state)
 	wrong = c.Set(0, 777600)
 	due, _ = c.Value(1)
 	past, _ = c.Value(2)
-	fmt.Println(wrong, due, past)
+	state, _ = c.Rule(0)
+	fmt.Println(wrong, due, past, state)
+	wrong = c.Close()
+	fmt.Println(wrong)
+	wrong = c.Advance(864000)
+	past, _ = c.Value(2)
+	fmt.Println(wrong, past, c.Log(2))
+	wrong = c.Set(0, 0)
+	fmt.Println(wrong)
 	// Output:
 	// 0 0
 	// 777600 0 0
 	// 0 0
-	// 0 1
-	// 9 777600
-	// 0 864000 0
+	// 0 1 [{777600 0 0} {781200 0 1}]
+	// 9 784799
+	// 0 {true 777600 1 true}
+	// 0 864000 0 {false 0 0 false}
+	// 0
+	// 0 1 []
+	// 10
 }

@@ -1,60 +1,51 @@
-package docket
+package docket_test
 
 import (
-	"math/rand"
 	"slices"
 	"testing"
 
 	"docket/api"
-	"docket/cells"
+	"docket/docket"
 )
 
-// No call shows the log and the states of rules yet, so they are looked at from inside.
+func event(at, rule, level int) api.Event { return api.Event{At: at, Rule: rule, Level: level} }
 
-func begin(t *testing.T, f api.Form) *Case {
-	t.Helper()
-	c, wrong, place := New(f)
-	if wrong != api.OK {
-		t.Fatalf("P3: New(%+v): %d and %d", f, wrong, place)
-	}
-	return c
+func lit(since, level int) api.State { return api.State{Lit: true, Since: since, Level: level} }
+
+func acked(since, level int) api.State {
+	return api.State{Lit: true, Since: since, Level: level, Acked: true}
 }
 
-func advance(t *testing.T, c *Case, to int) {
+func logged(t *testing.T, c *docket.Case, want ...api.Event) {
 	t.Helper()
-	if wrong := c.Advance(to); wrong != api.OK || c.Now() != to {
-		t.Fatalf("P6: Advance(%d) = %d, Now = %d", to, wrong, c.Now())
+	if log := c.Log(0); !slices.Equal(log, want) {
+		t.Errorf("P7: at %d the log is %v, want %v", c.Now(), log, want)
 	}
 }
 
-func set(t *testing.T, c *Case, cell, value int) {
+// state looks at all rules: there must be no more of them than there are states wanted.
+func state(t *testing.T, c *docket.Case, want ...api.State) {
 	t.Helper()
-	if wrong := c.Set(cell, value); wrong != api.OK {
-		t.Fatalf("P5: Set(%d, %d) = %d", cell, value, wrong)
+	for rule, w := range want {
+		if s, wrong := c.Rule(rule); s != w || wrong != api.OK {
+			t.Errorf("P7: at %d Rule(%d) = %v and %d, want %v", c.Now(), rule, s, wrong, w)
+		}
+	}
+	if s, wrong := c.Rule(len(want)); s != (api.State{}) || wrong != api.ErrName {
+		t.Errorf("P7: Rule(%d), which is not there, = %v and %d", len(want), s, wrong)
 	}
 }
 
-func logged(t *testing.T, c *Case, want ...api.Event) {
-	t.Helper()
-	if !slices.Equal(c.log, want) {
-		t.Errorf("P6: at %d the log is %v, want %v", c.now, c.log, want)
-	}
+func with(f api.Form, rules ...api.Rule) api.Form {
+	f.Rules = rules
+	return f
 }
 
-func state(t *testing.T, c *Case, want ...api.State) {
-	t.Helper()
-	if !slices.Equal(c.states, want) {
-		t.Errorf("P6: at %d the states are %v, want %v", c.now, c.states, want)
-	}
-}
+func rule(guard int, steps ...int) api.Rule { return api.Rule{Guard: guard, Steps: steps} }
 
 // deadline is the first form of the document's examples.
 func deadline(k int) api.Form {
-	return api.Form{
-		Week:  31,
-		Cells: []api.Cell{{Kind: api.Input, K: k}, {Kind: api.Past, A: 0}},
-		Rules: []api.Rule{{Guard: 1, Steps: []int{10, 100}}},
-	}
+	return with(form(input(k), one(api.Past, 0, 0)), rule(1, 10, 100))
 }
 
 func TestLogOfADeadline(t *testing.T) {
@@ -64,59 +55,98 @@ func TestLogOfADeadline(t *testing.T) {
 	logged(t, c)
 	state(t, c, api.State{})
 	advance(t, c, 505)
-	logged(t, c, api.Event{At: 500})
-	state(t, c, api.State{Lit: true, Since: 500})
+	logged(t, c, event(500, 0, 0))
+	state(t, c, lit(500, 0))
 	advance(t, c, 1000)
-	logged(t, c, api.Event{At: 500}, api.Event{At: 510, Level: 1}, api.Event{At: 600, Level: 2})
-	state(t, c, api.State{Lit: true, Since: 500, Level: 2})
-	set(t, c, 0, 2000)
+	logged(t, c, event(500, 0, 0), event(510, 0, 1), event(600, 0, 2))
+	state(t, c, lit(500, 2))
+	set(t, c, 0, 2000, api.OK)
+	values(t, c, 2000, 0)
 	state(t, c, api.State{})
 	advance(t, c, 1000000000)
-	logged(t, c, api.Event{At: 500}, api.Event{At: 510, Level: 1}, api.Event{At: 600, Level: 2},
-		api.Event{At: 2000}, api.Event{At: 2010, Level: 1}, api.Event{At: 2100, Level: 2})
+	logged(t, c, event(500, 0, 0), event(510, 0, 1), event(600, 0, 2),
+		event(2000, 0, 0), event(2010, 0, 1), event(2100, 0, 2))
 }
 
 func TestNewAndSetSettle(t *testing.T) {
 	c := begin(t, deadline(0))
-	logged(t, c, api.Event{})
-	set(t, c, 0, 1)
+	logged(t, c, event(0, 0, 0))
+	state(t, c, lit(0, 0))
+	set(t, c, 0, 1, api.OK)
 	state(t, c, api.State{})
-	set(t, c, 0, 0)
-	logged(t, c, api.Event{}, api.Event{})
+	set(t, c, 0, 0, api.OK)
+	logged(t, c, event(0, 0, 0), event(0, 0, 0))
 	advance(t, c, 10)
-	set(t, c, 0, -5)
-	logged(t, c, api.Event{}, api.Event{}, api.Event{At: 10, Level: 1})
-	state(t, c, api.State{Lit: true, Level: 1})
-	if wrong := c.Set(1, 0); wrong != api.ErrField {
-		t.Errorf("P5: Set of a Past = %d", wrong)
+	set(t, c, 0, -5, api.OK)
+	logged(t, c, event(0, 0, 0), event(0, 0, 0), event(10, 0, 1))
+	state(t, c, lit(0, 1))
+	set(t, c, 1, 0, api.ErrField)
+	logged(t, c, event(0, 0, 0), event(0, 0, 0), event(10, 0, 1))
+}
+
+// A rule that goes out and is lit again at one instant begins anew: since now, at level 0, not acked.
+func TestLitAgainAtOneInstant(t *testing.T) {
+	c := begin(t, deadline(500))
+	advance(t, c, 515)
+	state(t, c, lit(500, 1))
+	ack(t, c, 0, api.OK)
+	set(t, c, 0, 516, api.OK)
+	state(t, c, api.State{})
+	set(t, c, 0, 500, api.OK)
+	state(t, c, lit(515, 0))
+	set(t, c, 0, 900, api.OK)
+	set(t, c, 0, 515, api.OK)
+	state(t, c, lit(515, 0))
+	logged(t, c, event(500, 0, 0), event(510, 0, 1), event(515, 0, 0), event(515, 0, 0))
+	advance(t, c, 615)
+	logged(t, c, event(500, 0, 0), event(510, 0, 1), event(515, 0, 0), event(515, 0, 0), event(525, 0, 1), event(615, 0, 2))
+	state(t, c, lit(515, 2))
+}
+
+// Any value but 0 is true, and a guard that goes from one such value to another was true all the time.
+func TestGuardsAreTrueIfNotNought(t *testing.T) {
+	c := begin(t, with(form(input(0)), rule(0, 5)))
+	for i, value := range []int{-1, 2000000000, -2000000000, 1} {
+		set(t, c, 0, value, api.OK)
+		state(t, c, lit(0, 0))
+		if log := c.Log(0); len(log) != 1 {
+			t.Errorf("P7: after %d Sets the log is %v", i+1, log)
+		}
 	}
-	logged(t, c, api.Event{}, api.Event{}, api.Event{At: 10, Level: 1})
+	set(t, c, 0, 0, api.OK)
+	state(t, c, api.State{})
+	logged(t, c, event(0, 0, 0))
 }
 
 func TestARuleGoesOutWithItsGuard(t *testing.T) {
-	f := api.Form{
-		Week:  31,
-		Cells: []api.Cell{{Kind: api.Const, K: 250}, {Kind: api.Age, A: 0, K: 1000000}, {Kind: api.Const, K: 2}, {Kind: api.Same, A: 1, B: 2}},
-		Rules: []api.Rule{{Guard: 3}},
-	}
-	c := begin(t, f)
+	f := form(constant(250), one(api.Age, 0, 1000000), constant(2), two(api.Same, 1, 2))
+	c := begin(t, with(f, rule(3)))
 	advance(t, c, 2000249)
 	state(t, c, api.State{})
 	advance(t, c, 3000249)
-	state(t, c, api.State{Lit: true, Since: 2000250})
+	state(t, c, lit(2000250, 0))
 	advance(t, c, 3000250)
 	state(t, c, api.State{})
-	logged(t, c, api.Event{At: 2000250})
+	logged(t, c, event(2000250, 0, 0))
 }
 
 func TestSeveralRulesAtOneInstant(t *testing.T) {
-	f := deadline(500)
-	f.Rules = []api.Rule{{Guard: 1, Steps: []int{20}}, {Guard: 0, Steps: []int{500, 520}}, {Guard: 1, Steps: []int{20}}}
+	f := with(deadline(500), rule(1, 20), rule(0, 500, 520), rule(1, 20))
 	c := begin(t, f)
 	advance(t, c, 1000000000)
-	logged(t, c, api.Event{Rule: 1},
-		api.Event{At: 500}, api.Event{At: 500, Rule: 1, Level: 1}, api.Event{At: 500, Rule: 2},
-		api.Event{At: 520, Level: 1}, api.Event{At: 520, Rule: 1, Level: 2}, api.Event{At: 520, Rule: 2, Level: 1})
+	logged(t, c, event(0, 1, 0),
+		event(500, 0, 0), event(500, 1, 1), event(500, 2, 0),
+		event(520, 0, 1), event(520, 1, 2), event(520, 2, 1))
+	state(t, c, lit(500, 1), lit(0, 2), lit(500, 1))
+}
+
+// The guard is looked at ahead of the step: a rule whose guard goes out when its level comes is not lit.
+func TestOutWhenTheLevelComes(t *testing.T) {
+	f := form(constant(0), one(api.Past, 0, 0), constant(50), one(api.Past, 2, 0), two(api.Sub, 1, 3))
+	c := begin(t, with(f, rule(4, 49, 50, 51)))
+	advance(t, c, 1000)
+	logged(t, c, event(0, 0, 0), event(49, 0, 1))
+	state(t, c, api.State{})
 }
 
 func TestTheLastInstantSettles(t *testing.T) {
@@ -124,163 +154,55 @@ func TestTheLastInstantSettles(t *testing.T) {
 	f.Rules[0].Steps[1] = 11
 	c := begin(t, f)
 	advance(t, c, 1000000000)
-	logged(t, c, api.Event{At: 999999990}, api.Event{At: 1000000000, Level: 1})
-	state(t, c, api.State{Lit: true, Since: 999999990, Level: 1})
-}
-
-func TestAnAckedRuleStays(t *testing.T) {
-	c := begin(t, deadline(500))
-	advance(t, c, 550)
-	c.states[0].Acked = true
-	advance(t, c, 1000000000)
-	logged(t, c, api.Event{At: 500}, api.Event{At: 510, Level: 1})
-	state(t, c, api.State{Lit: true, Since: 500, Level: 1, Acked: true})
-}
-
-func TestAClosedCaseDoesNotSettle(t *testing.T) {
-	c := begin(t, deadline(500))
-	c.closed = true
-	advance(t, c, 1000)
-	logged(t, c)
-	state(t, c, api.State{})
-	if v, wrong := c.Value(1); v != 1 || wrong != api.OK {
-		t.Errorf("P6: Past of a closed case = %d and %d", v, wrong)
-	}
+	logged(t, c, event(999999990, 0, 0), event(1000000000, 0, 1))
+	state(t, c, lit(999999990, 1))
 }
 
 func TestWrongInstantsLogNothing(t *testing.T) {
 	c := begin(t, deadline(500))
 	advance(t, c, 505)
-	for _, to := range []int{504, 0, -1, 1000000001, 1 << 62, -1 << 63} {
-		if wrong := c.Advance(to); wrong != api.ErrTime {
-			t.Errorf("P6: Advance(%d) = %d", to, wrong)
-		}
-	}
+	refuses(t, c, 504, 0, -1, 1000000001, greatest, least)
 	advance(t, c, 505)
-	logged(t, c, api.Event{At: 500})
-	state(t, c, api.State{Lit: true, Since: 500})
-}
-
-// busy is a form of which much happens from instant 0 to some hundred.
-func busy(r *rand.Rand) api.Form {
-	n := 3 + r.Intn(18)
-	f := api.Form{Week: 127, Cells: make([]api.Cell, n)}
-	places := r.Perm(n)
-	for i, place := range places {
-		c := api.Cell{Kind: api.Input}
-		if i > 2 {
-			c.Kind = []int{api.Const, api.Add, api.Sub, api.Mul, api.Less, api.Same, api.If, api.Past, api.Past, api.Age}[r.Intn(10)]
-			c.A, c.B, c.C = places[r.Intn(i)], places[r.Intn(i)], places[r.Intn(i)]
-		}
-		switch c.Kind {
-		case api.Input, api.Const:
-			c.K = []int{r.Intn(3), r.Intn(200), r.Intn(200) - 1000000}[r.Intn(3)]
-		case api.Age:
-			c.K = 1000000
-		}
-		f.Cells[place] = c
-	}
-	for range r.Intn(7) {
-		rule := api.Rule{Guard: r.Intn(n)}
-		for last := 0; len(rule.Steps) < r.Intn(5); {
-			last += 1 + r.Intn(40)
-			rule.Steps = append(rule.Steps, last)
-		}
-		f.Rules = append(f.Rules, rule)
-	}
-	return f
-}
-
-// word is the document's word "to settle", said once more.
-func word(c *Case, values []int) {
-	for i, r := range c.form.Rules {
-		s := &c.states[i]
-		level := 0
-		switch {
-		case values[r.Guard] == 0:
-			*s = api.State{}
-			continue
-		case !s.Lit:
-			*s = api.State{Lit: true, Since: c.now}
-		case s.Level < len(r.Steps) && !s.Acked && c.now == s.Since+r.Steps[s.Level]:
-			level = s.Level + 1
-			s.Level = level
-		default:
-			continue
-		}
-		c.log = append(c.log, api.Event{At: c.now, Rule: i, Level: level})
-	}
-}
-
-// byInstants is Advance, instant by instant.
-func byInstants(c *Case, to int) {
-	for c.now < to {
-		c.now++
-		word(c, cells.Values(c.form, c.now))
-	}
-}
-
-func TestOneGoIsAsInstantByInstant(t *testing.T) {
-	r := rand.New(rand.NewSource(3))
-	levels, again := 0, 0
-	for range 1500 {
-		f := busy(r)
-		c := begin(t, f)
-		slow := begin(t, f)
-		for c.now < 300 {
-			to := c.now + []int{0, 1, r.Intn(20), r.Intn(300)}[r.Intn(4)]
-			advance(t, c, to)
-			byInstants(slow, to)
-			if !slices.Equal(c.log, slow.log) || !slices.Equal(c.states, slow.states) || slow.now != c.now {
-				t.Fatalf("P6: %+v at %d: %v and %v, want %v and %v", f, to, c.log, c.states, slow.log, slow.states)
-			}
-			for range 6 {
-				cell := r.Intn(len(f.Cells))
-				value := r.Intn(400)
-				if c.Set(cell, value) == api.OK {
-					slow.form.Cells[cell].K = value
-					word(slow, cells.Values(slow.form, slow.now))
-				}
-			}
-		}
-		lit := make([]int, len(f.Rules))
-		for _, e := range c.log {
-			levels += e.Level
-			if e.Level == 0 {
-				lit[e.Rule]++
-			}
-		}
-		for _, count := range lit {
-			again += max(0, count-1)
-		}
-	}
-	if levels < 1000 || again < 300 {
-		t.Errorf("the random cases prove little: %d levels, %d rules lit again", levels, again)
-	}
+	logged(t, c, event(500, 0, 0))
+	state(t, c, lit(500, 0))
 }
 
 // Years at one go, with a deadline that moves by itself and a rule that is lit again and again.
 func TestYearsAtOneGo(t *testing.T) {
-	f := api.Form{
-		Week: 31,
-		Cells: []api.Cell{
-			{Kind: api.Const}, {Kind: api.Age, A: 0, K: 1000000}, {Kind: api.Const, K: 1000000}, {Kind: api.Mul, A: 1, B: 2},
-			{Kind: api.Const, K: 600000}, {Kind: api.Add, A: 3, B: 4}, {Kind: api.Past, A: 5},
-		},
-		Rules: []api.Rule{{Guard: 6, Steps: []int{399999, 400000}}},
-	}
+	f := form(
+		constant(0), one(api.Age, 0, 1000000), constant(1000000), two(api.Mul, 1, 2),
+		constant(600000), two(api.Add, 3, 4), one(api.Past, 5, 0),
+	)
+	f = with(f, rule(6, 399999, 400000))
 	var want []api.Event
 	for unit := range 1000 {
-		want = append(want, api.Event{At: unit*1000000 + 600000}, api.Event{At: unit*1000000 + 999999, Level: 1})
+		want = append(want, event(unit*1000000+600000, 0, 0), event(unit*1000000+999999, 0, 1))
 	}
 	for _, by := range []int{1000000000, 600000, 77777777} {
 		c := begin(t, f)
-		for c.now < api.MaxTime {
-			advance(t, c, min(c.now+by, api.MaxTime))
+		for c.Now() < api.MaxTime {
+			advance(t, c, min(c.Now()+by, api.MaxTime))
 		}
-		if !slices.Equal(c.log, want) {
-			t.Errorf("P6: by %d at a time the log has %d events, want %d", by, len(c.log), len(want))
+		if log := c.Log(0); !slices.Equal(log, want) {
+			t.Errorf("P6: by %d at a time the log has %d events, want %d", by, len(log), len(want))
 		}
 		state(t, c, api.State{})
+	}
+}
+
+// The levels of a rule that is lit for years come one by one on the way.
+func TestLevelsOverYears(t *testing.T) {
+	f := with(form(input(250), one(api.Past, 0, 0)), rule(1, 1, 31536000, 315360000, 999999750), rule(1, 999999751), rule(1))
+	want := []api.Event{
+		event(250, 0, 0), event(250, 1, 0), event(250, 2, 0),
+		event(251, 0, 1), event(31536250, 0, 2), event(315360250, 0, 3), event(1000000000, 0, 4),
+	}
+	for _, to := range [][]int{{1000000000}, {250, 251, 31536250, 315360250, 1000000000}, {249, 31536249, 315360251, 999999999, 1000000000}} {
+		c := begin(t, f)
+		for _, instant := range to {
+			advance(t, c, instant)
+		}
+		logged(t, c, want...)
+		state(t, c, lit(250, 4), lit(250, 0), lit(250, 0))
 	}
 }
