@@ -3,6 +3,7 @@ package docket
 
 import (
 	"docket/api"
+	"docket/cells"
 	"docket/check"
 	"docket/kind"
 )
@@ -81,11 +82,14 @@ func (c *Case) Advance(to int) api.Errno {
 		return api.ErrTime
 	}
 	values := c.values()
-	for c.now < to {
-		c.now = c.nextTurn(values, to)
+	turn, turns := c.nextTurn(values)
+	for turns && turn <= to {
+		c.now = turn
 		values = c.values()
 		c.settle(values)
+		turn, turns = c.nextTurn(values)
 	}
+	c.now = to
 	return api.OK
 }
 
@@ -144,13 +148,30 @@ func (c *Case) Close() api.Errno {
 }
 
 // Next tells when something changes next (P10).
-func (c *Case) Next() (int, bool) { return 0, false }
+func (c *Case) Next() (int, bool) {
+	values := c.values()
+	return c.nextTurn(values)
+}
 
 // When tells when a cell changes next (P11).
-func (c *Case) When(cell int) (int, bool, api.Errno) { return 0, false, api.OK }
+func (c *Case) When(cell int) (int, bool, api.Errno) {
+	if !c.hasCell(cell) {
+		return 0, false, api.ErrName
+	}
+	turn, turns := cells.When(c.form, cell, c.now)
+	return turn, turns, api.OK
+}
 
 // Fork makes a second case like this one (P12).
-func (c *Case) Fork() *Case { return nil }
+func (c *Case) Fork() *Case {
+	return &Case{
+		form:   copyForm(c.form),
+		now:    c.now,
+		closed: c.closed,
+		states: append([]api.State{}, c.states...),
+		log:    append([]api.Event{}, c.log...),
+	}
+}
 
 // Print writes a form as a text (P13).
 func Print(f api.Form) (string, api.Errno) { return "", api.OK }

@@ -25,7 +25,8 @@ func Example() {
 	fmt.Println(wrong, place)
 	due, wrong := c.Value(1)
 	past, _ := c.Value(2)
-	fmt.Println(due, wrong, past)
+	next, comes := c.Next()
+	fmt.Println(due, wrong, past, next, comes)
 	wrong = c.Advance(777599)
 	past, _ = c.Value(2)
 	fmt.Println(wrong, past)
@@ -34,6 +35,11 @@ func Example() {
 	fmt.Println(wrong, past, c.Log(0))
 	wrong = c.Advance(777600)
 	fmt.Println(wrong, c.Now())
+	at, comes, wrong := c.When(2)
+	fmt.Println(at, comes, wrong)
+	d := c.Fork()
+	wrong = d.Advance(784800)
+	fmt.Println(wrong, d.Log(2), c.Log(2))
 	wrong = c.Ack(0)
 	state, _ := c.Rule(0)
 	fmt.Println(wrong, state)
@@ -42,6 +48,8 @@ func Example() {
 	past, _ = c.Value(2)
 	state, _ = c.Rule(0)
 	fmt.Println(wrong, due, past, state)
+	at, comes, wrong = c.When(2)
+	fmt.Println(at, comes, wrong)
 	wrong = c.Close()
 	fmt.Println(wrong)
 	wrong = c.Advance(864000)
@@ -51,12 +59,15 @@ func Example() {
 	fmt.Println(wrong)
 	// Output:
 	// 0 0
-	// 777600 0 0
+	// 777600 0 0 777600 true
 	// 0 0
 	// 0 1 [{777600 0 0} {781200 0 1}]
 	// 9 784799
+	// 0 false 0
+	// 0 [{784800 0 2}] []
 	// 0 {true 777600 1 true}
 	// 0 864000 0 {false 0 0 false}
+	// 864000 true 0
 	// 0
 	// 0 1 []
 	// 10

@@ -56,12 +56,20 @@ func newModel(f api.Form) *model {
 	return m
 }
 
+func (m *model) fork() *model {
+	f := m.form
+	f.Cells = slices.Clone(f.Cells)
+	return &model{form: f, now: m.now, closed: m.closed, states: slices.Clone(m.states), log: slices.Clone(m.log)}
+}
+
+func (m *model) values() []int { return cells.Values(m.form, m.now) }
+
 // settle is the document's word "to settle", said once more.
 func (m *model) settle() {
 	if m.closed {
 		return
 	}
-	values := cells.Values(m.form, m.now)
+	values := m.values()
 	for i, r := range m.form.Rules {
 		s := &m.states[i]
 		level := 0
@@ -86,6 +94,26 @@ func (m *model) advance(to int) {
 		m.now++
 		m.settle()
 	}
+}
+
+// ahead lets a fork's clock go on to the instant last, and tells when first something happens
+// and when each cell first has another value than now; 0, where nothing does up to then.
+func (m *model) ahead(last int) (int, []int) {
+	m = m.fork()
+	present, events := m.values(), len(m.log)
+	next, whens := 0, make([]int, len(present))
+	for m.now < last {
+		m.advance(m.now + 1)
+		for cell, v := range m.values() {
+			if v != present[cell] && whens[cell] == 0 {
+				whens[cell] = m.now
+			}
+		}
+		if next == 0 && (len(m.log) > events || slices.Contains(whens, m.now)) {
+			next = m.now
+		}
+	}
+	return next, whens
 }
 
 func (m *model) set(cell, value int) api.Errno {
