@@ -6,6 +6,7 @@ import (
 	"docket/cells"
 	"docket/check"
 	"docket/kind"
+	"docket/text"
 )
 
 // Case is a form that is filled in, with a clock and a log.
@@ -174,7 +175,23 @@ func (c *Case) Fork() *Case {
 }
 
 // Print writes a form as a text (P13).
-func Print(f api.Form) (string, api.Errno) { return "", api.OK }
+func Print(f api.Form) (string, api.Errno) {
+	wrong, _ := check.Form(f)
+	if wrong != api.OK {
+		return "", wrong
+	}
+	return text.Write(f), api.OK
+}
 
 // Parse reads the text of a form (P14).
-func Parse(s string) (api.Form, api.Errno, int) { return api.Form{}, api.OK, 0 }
+func Parse(s string) (api.Form, api.Errno, int) {
+	f, place, isText := text.Read(s)
+	if !isText {
+		return api.Form{}, api.ErrText, place
+	}
+	wrong, place := check.Form(f)
+	if wrong != api.OK {
+		return api.Form{}, wrong, place
+	}
+	return f, api.OK, 0
+}

@@ -57,6 +57,12 @@ func Example() {
 	fmt.Println(wrong, past, c.Log(2))
 	wrong = c.Set(0, 0)
 	fmt.Println(wrong)
+	s, wrong := docket.Print(f)
+	fmt.Printf("%q %d\n", s, wrong)
+	g, wrong, place := docket.Parse(s)
+	fmt.Println(g, wrong, place)
+	g, wrong, place = docket.Parse("w 31 7 8\nc 13")
+	fmt.Println(g, wrong, place)
 	// Output:
 	// 0 0
 	// 777600 0 0 777600 true
@@ -71,4 +77,7 @@ func Example() {
 	// 0
 	// 0 1 []
 	// 10
+	// "w 31 7 8\nc 0 345600\nc 12 0 1\nc 10 1\nr 2 3600 7200\n" 0
+	// {[{0 0 0 0 345600} {12 0 0 0 1} {10 1 0 0 0}] [{2 [3600 7200]}] 31 [7 8]} 0 0
+	// {[] [] 0 []} 12 12
 }

@@ -45,6 +45,15 @@ func Need(c api.Cell, place int) int {
 	return c.C
 }
 
+// HasK tells whether the row of this kind says something of K.
+func HasK(kind int) bool {
+	switch kind {
+	case api.Input, api.Const, api.Age, api.Due:
+		return true
+	}
+	return false
+}
+
 // AllowsK tells whether a cell of this kind may have this K.
 // A kind whose row is silent on K allows every one.
 func AllowsK(kind int, k int) bool {

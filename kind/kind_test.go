@@ -37,6 +37,20 @@ func TestNeedReadsThePlaces(t *testing.T) {
 	}
 }
 
+func TestHasK(t *testing.T) {
+	want := []bool{true, true, false, false, false, false, false, false, false, false, false, true, true}
+	for kind, has := range want {
+		if HasK(kind) != has {
+			t.Errorf("HasK(%d) is %v", kind, !has)
+		}
+	}
+	for _, kind := range []int{-1, 13, least, greatest} {
+		if HasK(kind) {
+			t.Errorf("HasK(%d) is true", kind)
+		}
+	}
+}
+
 func TestAllowsK(t *testing.T) {
 	for _, c := range []struct {
 		kind, low, high int
